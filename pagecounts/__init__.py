@@ -1,0 +1,1 @@
+"""Pagecounts: what page counts tell about the chapters of a book."""
