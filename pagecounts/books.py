@@ -1,7 +1,6 @@
 """Editions of a book: page counts, and what stands on which page."""
 
-from pagecounts.checks import check_book, check_number, check_size
-from pagecounts.errors import InvalidNumber
+from pagecounts.checks import check_book, check_not_negative, check_number, check_size
 
 
 def pages(book, size):
@@ -34,8 +33,7 @@ def lines_on(book, size, page):
 def counts(book, limit):
     """Yield the page counts of the sizes from 1 to a limit."""
     check_book(book)
-    if limit < 0:
-        raise InvalidNumber(limit)
+    check_not_negative(limit)
     for size in range(1, limit + 1):
         yield count_pages(book, size)
 

@@ -14,6 +14,22 @@ def small_books(most_chapters=3, longest=5):
     return books
 
 
+def books_with(chapters, lines):
+    """Return every book with so many chapters and lines, in ascending order."""
+    lengths = range(1, lines + 1)
+    return [list(book) for book in product(lengths, repeat=chapters) if sum(book) == lines]
+
+
+def slow_counts(book, sizes):
+    """Return the page counts of some sizes, as the slow model has them."""
+    return [len(layout(book, size)) for size in sizes]
+
+
+def quick_counts(book, sizes):
+    """Return the page counts of some sizes for lengths that are too great for the slow model."""
+    return [sum(-(-length // size) for length in book) for size in sizes]
+
+
 def layout(book, size):
     """Return the pages of an edition: a list of (chapter, line) for each one."""
     sheets = []

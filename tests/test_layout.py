@@ -17,6 +17,19 @@ INTERFACE = {
         "sizes_with": ["book", "number"],
         "total_pages": ["book", "first", "last"],
     },
+    "tables.py": {
+        "lengths_of": ["table"],
+        "count_books": ["table"],
+    },
+    "parting.py": {
+        "same_counts": ["first", "second"],
+        "parting_size": ["first", "second"],
+    },
+    "chains.py": {
+        "count_fitting": ["chapters", "lines", "chain"],
+        "contradiction": ["chapters", "lines", "chain"],
+        "nth_fitting": ["chapters", "lines", "chain", "number"],
+    },
 }
 LIBRARY = {
     "heapq": ["heappush", "heappop", "heapify", "heapreplace", "heappushpop"],
