@@ -36,8 +36,11 @@ def total_pages(book, first, last):
     if first > last:
         return 0
     # A chapter has one page, and one more for each full page of its other lines.
-    full = sum([sum_quotients(length - 1, first, last) for length in book])
-    return full + len(book) * (last - first + 1)
+    total = len(book) * (last - first + 1)
+    # Long chapters take time, so that equal ones are summed up once.
+    for length in sorted(set(book)):
+        total = total + book.count(length) * sum_quotients(length - 1, first, last)
+    return total
 
 
 def search_size(book, most):
@@ -55,13 +58,13 @@ def search_size(book, most):
 
 def sum_quotients(lines, first, last):
     """Return the sum of lines // size over the sizes from first to last."""
-    # Up to the root there are few sizes, and behind it few quotients.
+    # There are few sizes up to the root of the lines, and few quotients for the sizes beyond it.
     root = isqrt(lines)
-    near = sum_by_size(lines, first, min(last, root))
-    low = max(first, root + 1)
-    if last - low < lines // low:
-        return near + sum_by_size(lines, low, last)
-    return near + sum_by_quotient(lines, low, last)
+    if last <= root:
+        return sum_by_size(lines, first, last)
+    if first <= root:
+        return sum_across_root(lines, first, last, root)
+    return sum_by_quotient(lines, first, last)
 
 
 def sum_by_size(lines, first, last):
@@ -70,7 +73,20 @@ def sum_by_size(lines, first, last):
 
 
 def sum_by_quotient(lines, first, last):
-    """Return the same sum, in as many steps as the greatest quotient says."""
-    # The sizes with a quotient of at least q are those up to lines // q.
-    quotients = range(1, lines // first + 1)
-    return sum([min(last, lines // quotient) - first + 1 for quotient in quotients])
+    """Return the same sum, in as many steps as there are quotients."""
+    # Each quotient counts once for each size that reaches it: up to the least one, these are all sizes;
+    # then, those from the first one to lines // quotient.
+    least = lines // (last + 1)
+    greatest = lines // first
+    return least * last + sum_by_size(lines, least + 1, greatest) - greatest * (first - 1)
+
+
+def sum_across_root(lines, first, last, root):
+    """Return the same sum if the first size is not beyond the root, but the last one is."""
+    # The sizes up to the root and the quotients of the sizes beyond it are mostly the same numbers,
+    # so that the divisions by these are made only once.
+    least = lines // (last + 1)
+    low = min(first, least + 1)
+    high = max(first, least + 1)
+    common = sum_by_size(lines, high, root)
+    return sum_by_size(lines, low, high - 1) + 2 * common + least * last - root * root

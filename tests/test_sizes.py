@@ -4,7 +4,7 @@ from cases import ProgramCase
 from pagecounts.books import pages
 from pagecounts.errors import InvalidBook, InvalidNumber, InvalidSize
 from pagecounts.sizes import least_size, sizes_with, total_pages
-from samples import GREAT, WRONG_BOOKS, layout, small_books
+from samples import GREAT, WRONG_BOOKS, layout, quick_counts, small_books
 
 BOOK = [5, 3, 3]
 
@@ -119,7 +119,7 @@ class SizesWith(ProgramCase):
 
 class TotalPages(ProgramCase):
     # The sums of 10 ** k // s over all sizes s, for k from 0 on.
-    SUMS = [1, 27, 482, 7069, 93668, 1166750, 13970034, 162725364, 1857511568, 20877697634]
+    SUMS = [1, 27, 482, 7069, 93668, 1166750, 13970034, 162725364, 1857511568, 20877697634, 231802823220]
 
     def test_example(self):
         self.assertEqual(total_pages(BOOK, 1, 10 ** 20), 300000000000000000014)
@@ -157,12 +157,32 @@ class TotalPages(ProgramCase):
             length = 10 ** power
             self.assertEqual(total_pages([length + 1], 1, length), total + length)
 
+    def test_equal_chapters(self):
+        for book in ([7, 7], [1, 7, 1, 7, 7], [30, 2, 30], [26] * 10, [9, 9, 10, 10, 9]):
+            many = quick_counts(book, range(1, 40))
+            for first in range(1, 40):
+                for last in range(first, 40):
+                    expected = sum(many[first - 1:last])
+                    self.assertEqual(total_pages(book, first, last), expected, (book, first, last))
+
+    def test_ranges_around_the_root_of_longer_chapters(self):
+        for length in (9999, 10 ** 4, 10001, 10002, 10101, 10102, 12345):
+            many = [0]
+            for size in range(1, length + 10):
+                many.append(many[-1] + pages([length], size))
+            for first in (1, 2, 50, 99, 100, 101, 102, 500, length - 1, length, length + 1):
+                for last in (1, 50, 98, 99, 100, 101, 102, 103, 200, 999, length - 1, length, length + 9):
+                    expected = max(0, many[last] - many[first - 1])
+                    self.assertEqual(total_pages([length], first, last), expected, (length, first, last))
+
     def test_parts_of_a_range_make_the_range(self):
         book = [10 ** 10, 10 ** 10 - 1, 9999800001, 123456789, 1]
-        whole = total_pages(book, 1, 10 ** 20)
-        for cut in (1, 2, 1000, 99998, 99999, 10 ** 5, 10 ** 5 + 1, 5 * 10 ** 9, 10 ** 10, 10 ** 15):
-            parts = total_pages(book, 1, cut) + total_pages(book, cut + 1, 10 ** 20)
-            self.assertEqual(parts, whole, cut)
+        for first, last in ((1, 10 ** 20), (1, 10 ** 10), (777, 10 ** 5), (99999, GREAT), (10 ** 6, 10 ** 9)):
+            whole = total_pages(book, first, last)
+            for cut in (1, 2, 1000, 99998, 99999, 10 ** 5, 10 ** 5 + 1, 10 ** 7, 5 * 10 ** 9, 10 ** 10, 10 ** 15):
+                if first <= cut < last:
+                    parts = total_pages(book, first, cut) + total_pages(book, cut + 1, last)
+                    self.assertEqual(parts, whole, (first, last, cut))
 
     def test_short_ranges_of_long_chapters(self):
         book = [10 ** 10] * 9 + [7]
@@ -174,6 +194,13 @@ class TotalPages(ProgramCase):
         book = [10 ** 10 - step for step in range(10)]
         singles = sum(total_pages([length], 1, 10 ** 20) for length in book)
         self.assertEqual(total_pages(book, 1, 10 ** 20), singles)
+        self.assertEqual(total_pages([10 ** 10] * 10, 1, GREAT), 10 * total_pages([10 ** 10], 1, GREAT))
+
+    def test_known_sum_at_the_bound(self):
+        # The sums of 10 ** 10 // s and (10 ** 10 - 1) // s differ by the number of divisors of 10 ** 10.
+        expected = self.SUMS[10] - 11 * 11 + 10 ** 29
+        self.assertEqual(total_pages([10 ** 10], 1, 10 ** 29), expected)
+        self.assertEqual(total_pages([10 ** 10] * 10, 1, 10 ** 29), 10 * expected)
 
     def test_beyond_all_chapters(self):
         self.assertEqual(total_pages(BOOK, 5, 5 + 10 ** 29), 3 * (10 ** 29 + 1))
