@@ -40,7 +40,8 @@ def counts(book, limit):
 
 def count_pages(book, size):
     """Return the page count of a book and a size that are checked."""
-    return sum([chapter_pages(length, size) for length in book])
+    # Each chapter has one page, and one more for each full page of its other lines.
+    return len(book) + sum([(length - 1) // size for length in book])
 
 
 def chapter_pages(length, size):

@@ -30,7 +30,35 @@ INTERFACE = {
         "contradiction": ["chapters", "lines", "chain"],
         "nth_fitting": ["chapters", "lines", "chain", "number"],
     },
+    "hidden.py": {
+        "HiddenBook": {"__init__": ["self", "book"], "ask": ["self", "size"], "questions": ["self"]},
+        "find": ["hidden", "longest"],
+    },
+    "live.py": {
+        "LiveBook": {
+            "__init__": ["self", "book"],
+            "__eq__": ["self", "other"],
+            "book": ["self"],
+            "chapters": ["self"],
+            "lines": ["self"],
+            "add": ["self", "*lengths"],
+            "split": ["self", "chapter", "line"],
+            "join": ["self", "chapter"],
+            "undo": ["self"],
+            "titles": ["self", "size"],
+            "from_table": ["cls", "table"],
+        },
+    },
+    "texts.py": {
+        "show_book": ["book"],
+    },
+    "readings.py": {
+        "read_book": ["text"],
+    },
 }
+for error in ("InvalidBook", "InvalidSize", "InvalidTable", "InvalidChain", "InvalidNumber", "NothingToUndo",
+              "Unreadable"):
+    INTERFACE.setdefault("errors.py", {})[error] = {"__init__": ["self", "value"]}
 LIBRARY = {
     "heapq": ["heappush", "heappop", "heapify", "heapreplace", "heappushpop"],
     "math": ["gcd", "lcm", "isqrt", "comb", "perm", "factorial"],
@@ -42,6 +70,13 @@ LIBRARY = {
 
 def package_files():
     return [path for path in sorted(FOLDER.rglob("*")) if "__pycache__" not in path.parts]
+
+
+def argument_names(node):
+    names = [item.arg for item in node.args.args]
+    if node.args.vararg:
+        names.append("*" + node.args.vararg.arg)
+    return names
 
 
 def defined_names(tree):
@@ -59,10 +94,16 @@ class Layout(unittest.TestCase):
             self.assertRegex(path.name, r"^[a-z0-9_]+\.py$")
 
     def test_interface_is_defined_in_its_files(self):
-        for name, functions in INTERFACE.items():
-            nodes = {node.name: node for node in self.trees[FOLDER / name].body if isinstance(node, ast.FunctionDef)}
-            for function, arguments in functions.items():
-                self.assertEqual([item.arg for item in nodes[function].args.args], arguments)
+        for name, listed in INTERFACE.items():
+            self.check_defined(self.trees[FOLDER / name], listed)
+
+    def check_defined(self, tree, listed):
+        nodes = {node.name: node for node in tree.body if isinstance(node, (ast.FunctionDef, ast.ClassDef))}
+        for name, told in listed.items():
+            if isinstance(told, dict):
+                self.check_defined(nodes[name], told)
+            else:
+                self.assertEqual(argument_names(nodes[name]), told)
 
     def test_characters_and_lengths(self):
         for path, text in self.texts.items():
