@@ -1,6 +1,6 @@
 """Books for the tests, and a slow model that lays a book out line by line."""
 
-from itertools import product
+from itertools import combinations, product
 
 GREAT = 10 ** 30 - 1
 WRONG_BOOKS = [([0], 0), ([-3], 0), ([4, 0], 1), ([4, 1, -1, 0], 2), ([1, 1, 1, 0], 3), ([-GREAT, 5], 0)]
@@ -16,8 +16,10 @@ def small_books(most_chapters=3, longest=5):
 
 def books_with(chapters, lines):
     """Return every book with so many chapters and lines, in ascending order."""
-    lengths = range(1, lines + 1)
-    return [list(book) for book in product(lengths, repeat=chapters) if sum(book) == lines]
+    if chapters == 0 or lines < chapters:
+        return [[]] if chapters == lines else []
+    ends = [(0, *cuts, lines) for cuts in combinations(range(1, lines), chapters - 1)]
+    return [[end - start for start, end in zip(row, row[1:])] for row in ends]
 
 
 def slow_counts(book, sizes):

@@ -53,7 +53,7 @@ class SmallChains(ProgramCase):
         self.assertEqual(count_fitting(*arguments), len(books), arguments)
         self.assertEqual(contradiction(*arguments), slow_contradiction(*arguments), arguments)
         self.assertEqual([nth_fitting(*arguments, number) for number in range(len(books))], books, arguments)
-        for number in (-1, len(books)):
+        for number in (-1, len(books), len(books) + 1, -GREAT, GREAT):
             self.assert_raises_with(InvalidNumber, number, nth_fitting, *arguments, number)
 
     def test_no_tuple(self):
@@ -88,6 +88,20 @@ class SmallChains(ProgramCase):
                     chain = chain_of(book, sizes)
                     chain[place] = (chain[place][0], chain[place][1] + step)
                     self.check(chapters, lines, chain)
+
+    def test_chains_with_greater_ratios(self):
+        for sizes in ((3,), (4,), (5,), (1, 3, 9), (2, 6), (3, 12), (2, 10, 20), (4, 20), (1, 7)):
+            for chapters, lines in ((3, 20), (4, 16), (5, 15), (6, 13), (7, 12), (8, 11)):
+                books = books_with(chapters, lines)
+                for book in books[::len(books) // 3]:
+                    self.check_whole(chapters, lines, chain_of(book, sizes), books)
+
+    def check_whole(self, chapters, lines, chain, books):
+        sizes = [size for size, _ in chain]
+        fit = [book for book in books if chain_of(book, sizes) == chain]
+        self.assertEqual(count_fitting(chapters, lines, chain), len(fit))
+        self.assertEqual([nth_fitting(chapters, lines, chain, number) for number in range(len(fit))], fit)
+        self.assert_raises_with(InvalidNumber, len(fit), nth_fitting, chapters, lines, chain, len(fit))
 
 
 class Edges(ProgramCase):
@@ -233,6 +247,46 @@ class NthFitting(ProgramCase):
             self.assertEqual(len({tuple(book) for book in books}), 50)
             for book in books:
                 self.assertEqual([sum(book), len(book), chain_of(book, (2, 4, 8, 16))], [60, 8, chain])
+
+    def test_first_and_last_books_of_great_chains(self):
+        for chain in ([(1, 60), (2, 33), (4, 19), (8, 12)], [(2, 34), (4, 20), (8, 13), (16, 9)], [(7, 12)],
+                      [(3, 24), (9, 11), (27, 8)], [(5, 16), (15, 9)], [(60, 8)], [(1, 60), (3, 25), (12, 10)]):
+            many = count_fitting(8, 60, chain)
+            first = [nth_fitting(8, 60, chain, number) for number in range(5)]
+            last = [nth_fitting(8, 60, chain, number) for number in range(many - 5, many)]
+            middle = [nth_fitting(8, 60, chain, number) for number in range(many // 2, many // 2 + 5)]
+            books = first + middle + last
+            self.assertEqual(sorted(books), books)
+            self.assertEqual(len({tuple(book) for book in books}), 15)
+            for book in books:
+                self.assertEqual(chain_of(book, [size for size, _ in chain]), chain)
+                self.assertEqual([sum(book), len(book)], [60, 8])
+            for number in (-1, -many, many, many + 1, 10 * many, GREAT):
+                self.assert_raises_with(InvalidNumber, number, nth_fitting, 8, 60, chain, number)
+
+    def test_least_and_greatest_book(self):
+        # The lengths less one have 2 ones, 3 twos and 3 fours in all, and 4 eights.
+        chain = [(1, 60), (2, 33), (4, 19), (8, 12)]
+        self.assertEqual(nth_fitting(8, 60, chain, 0), [1, 1, 1, 1, 1, 7, 8, 40])
+        self.assertEqual(nth_fitting(8, 60, chain, 28 * 56 * 56 * 330 - 1), [40, 8, 7, 1, 1, 1, 1, 1])
+        self.assertEqual(count_fitting(8, 60, chain), 28 * 56 * 56 * 330)
+
+    def test_many_numbers_of_one_chain(self):
+        chain = [(1, 60), (2, 33), (4, 19), (8, 12)]
+        # It should take about 0.03 seconds, so that a machine may be ten times as slow.
+        books = self.assert_ends_within(0.4, lambda: [nth_fitting(8, 60, chain, 10 ** 6 + k) for k in range(2000)])
+        self.assertEqual(sorted(books), books)
+        self.assertEqual(len({tuple(book) for book in books}), 2000)
+        self.assertEqual([chain_of(book, (1, 2, 4, 8)) for book in books], [chain] * 2000)
+
+    def test_a_call_leaves_nothing_for_the_next_one(self):
+        calls = [(2, 4, [(2, 3)], 1), (3, 11, [(2, 7), (4, 4)], 8), (2, 4, [(2, 3)], 0), (8, 60, [(60, 8)], 77)]
+        expected = [nth_fitting(*call) for call in calls]
+        self.assertEqual([nth_fitting(*call) for call in calls[::-1]], expected[::-1])
+        chain = [(2, 3)]
+        self.assertEqual(nth_fitting(2, 4, chain, 1), [3, 1])
+        chain[0] = (2, 2)
+        self.assertEqual(nth_fitting(2, 4, chain, 0), [2, 2])
 
     def test_only_book(self):
         self.assertEqual(nth_fitting(1, 60, [(60, 1)], 0), [60])
