@@ -1,10 +1,9 @@
-"""Sizes of editions with given numbers of pages, and sums over ranges of sizes."""
-
-from math import isqrt
+"""Sizes of editions with given numbers of pages, and sums of page counts over ranges of sizes."""
 
 from pagecounts.books import count_pages
 from pagecounts.checks import check_book, check_size
 from pagecounts.errors import InvalidNumber
+from pagecounts.quotients import sum_quotients
 
 
 def least_size(book, most):
@@ -36,11 +35,7 @@ def total_pages(book, first, last):
     if first > last:
         return 0
     # A chapter has one page, and one more for each full page of its other lines.
-    total = len(book) * (last - first + 1)
-    # Long chapters take time, so that equal ones are summed up once.
-    for length in sorted(set(book)):
-        total = total + book.count(length) * sum_quotients(length - 1, first, last)
-    return total
+    return len(book) * (last - first + 1) + sum_quotients([length - 1 for length in book], first, last)
 
 
 def search_size(book, most):
@@ -54,39 +49,3 @@ def search_size(book, most):
         else:
             low = middle + 1
     return low
-
-
-def sum_quotients(lines, first, last):
-    """Return the sum of lines // size over the sizes from first to last."""
-    # There are few sizes up to the root of the lines, and few quotients for the sizes beyond it.
-    root = isqrt(lines)
-    if last <= root:
-        return sum_by_size(lines, first, last)
-    if first <= root:
-        return sum_across_root(lines, first, last, root)
-    return sum_by_quotient(lines, first, last)
-
-
-def sum_by_size(lines, first, last):
-    """Return the same sum, in as many steps as there are sizes."""
-    return sum([lines // size for size in range(first, last + 1)])
-
-
-def sum_by_quotient(lines, first, last):
-    """Return the same sum, in as many steps as there are quotients."""
-    # Each quotient counts once for each size that reaches it: up to the least one, these are all sizes;
-    # then, those from the first one to lines // quotient.
-    least = lines // (last + 1)
-    greatest = lines // first
-    return least * last + sum_by_size(lines, least + 1, greatest) - greatest * (first - 1)
-
-
-def sum_across_root(lines, first, last, root):
-    """Return the same sum if the first size is not beyond the root, but the last one is."""
-    # The sizes up to the root and the quotients of the sizes beyond it are mostly the same numbers,
-    # so that the divisions by these are made only once.
-    least = lines // (last + 1)
-    low = min(first, least + 1)
-    high = max(first, least + 1)
-    common = sum_by_size(lines, high, root)
-    return sum_by_size(lines, low, high - 1) + 2 * common + least * last - root * root
