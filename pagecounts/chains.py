@@ -16,7 +16,7 @@ from pagecounts.errors import InvalidNumber
 def count_fitting(chapters, lines, chain):
     """Return the number of books with so many chapters and lines that fit a chain."""
     check_demands(chapters, lines, chain)
-    return count_books(chapters, list_places(chapters, lines, chain))
+    return multiply_ways(chapters, list_places(chapters, lines, chain))
 
 
 def contradiction(chapters, lines, chain):
@@ -36,7 +36,7 @@ def nth_fitting(chapters, lines, chain, number):
     """Return the book with a number, from 0 on, of all books that fit, in the order of lists."""
     check_demands(chapters, lines, chain)
     places = list_places(chapters, lines, chain)
-    books = count_books(chapters, places)
+    books = multiply_ways(chapters, places)
     if number < 0 or number >= books:
         raise InvalidNumber(number)
     if chapters == 0:
@@ -72,8 +72,8 @@ def list_places(chapters, lines, chain):
     return places
 
 
-def count_books(chapters, places):
-    """Return the number of books with these places."""
+def multiply_ways(chapters, places):
+    """Return the number of books with these places, which are filled whatever stands at the others."""
     books = 1
     for _, limit, total in places:
         books = books * count_lists(chapters, limit, total)
@@ -116,10 +116,10 @@ def list_lengths(chapters, places, number, books):
 
 
 def find_digit(left, limit, total, number, books):
-    """Return the next digit at a place, and the number among the books that have it, and how many have it.
+    """Return the digit of a chapter at a place, the book's number among those with this digit, and how many they are.
 
-    Before, the book has a number among all books. `total` is the sum of this digit and those of the `left` chapters
-    behind. The books with each digit are a known share of all, because other places do not depend on it.
+    So far the book has `number` among `books`. `total` is the sum of this digit and those of the `left` chapters behind
+    it. Each digit has a known share of the books, because nothing that is open at the other places depends on it.
     """
     if total < limit:
         return find_free_digit(left, total, number, books)
